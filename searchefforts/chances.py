@@ -38,21 +38,19 @@ def found(tables, had, row):
     return fraction(left - mass_sum(tables, together(had, row)), left)
 
 
-def best_cell(tables, had):
-    best = 0
-    # Below 0, so that an effort that adds nothing is dealt too.
-    most = -1
-    for cell, efforts in enumerate(had):
-        if efforts < MOST_EFFORTS:
-            adds = tables[cell][efforts] - tables[cell][efforts + 1]
-            if adds > most:
-                best = cell
-                most = adds
-    return best
+# What one more effort adds is told as mass: over what's left, the same for all that are compared, it's the chance.
+def next_adds(table, efforts):
+    return table[efforts] - table[efforts + 1]
 
 
-def best_row(tables, had, many):
-    row = [0 for efforts in had]
-    while sum(row) < many:
-        row[best_cell(tables, together(had, row))] += 1
-    return row
+def order_adds(tables, had, order):
+    now = list(had)
+    adds = []
+    for cell in order:
+        adds.append(next_adds(tables[cell], now[cell]))
+        now[cell] += 1
+    return adds
+
+
+def row_of(order, many_cells):
+    return [order.count(cell) for cell in range(many_cells)]

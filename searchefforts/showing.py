@@ -1,6 +1,10 @@
 """How a field is shown."""
 
 
+def to_bytes(text):
+    return [ord(sign) for sign in text]
+
+
 def line(pieces):
     return " ".join(pieces) + ";\n"
 
@@ -20,4 +24,4 @@ def shown(field):
         lines.append(cell_line(cell))
     for team in field.teams:
         lines.append(team_line(team, field.cells))
-    return [ord(sign) for sign in "".join(lines)]
+    return to_bytes("".join(lines))

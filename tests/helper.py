@@ -1,10 +1,14 @@
 """How the tests put calls into one list, and take the answers apart."""
 
+from fractions import Fraction
+
 from searchefforts.field import answers
 
 NUMBER_OF = {
     "field": 0, "where": 1, "shown": 2, "vain": 3, "back": 4,
     "evidence": 5, "chances": 6, "left": 7, "would": 8, "best": 9,
+    "curve": 10, "price": 11, "thrift": 12, "order": 13, "takes": 14,
+    "teams": 15, "can": 16, "cells": 17, "counts": 18, "clear": 19,
 }
 
 
@@ -46,6 +50,22 @@ def ask(*calls):
 
 def last(*calls):
     return ask(*calls)[-1]
+
+
+def each(*calls, before):
+    """The answers to any number of calls, each time behind the same ones, in as many lines as they take."""
+    given = []
+    for start in range(0, len(calls), 100):
+        given += ask(*before, *calls[start:start + 100])[len(before):]
+    return given
+
+
+def fractions(numbers):
+    return [Fraction(upper, lower) for upper, lower in zip(numbers[::2], numbers[1::2], strict=True)]
+
+
+def pairs(values):
+    return [number for value in values for number in Fraction(value).as_integer_ratio()]
 
 
 def cell(name, weight=1, finds=1, time=1):

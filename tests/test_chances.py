@@ -4,15 +4,11 @@ import unittest
 from fractions import Fraction
 from itertools import permutations
 
-from helper import ask, cell, cells, last
+from helper import ask, cell, cells, fractions, last
 
 TWO = "parts 10;" + cell("a", 5, 3) + cell("b", 7, 5)
 FOUR = "parts 4;" + cell("a", 6, 1) + cell("b", 0, 2) + cell("c", 3, 0) + cell("d", 1, 4)
 SIXTEEN = "parts 100;" + cells(16)
-
-
-def fractions(numbers):
-    return [Fraction(upper, lower) for upper, lower in zip(numbers[::2], numbers[1::2], strict=True)]
 
 
 class Efforts(unittest.TestCase):

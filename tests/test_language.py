@@ -146,6 +146,29 @@ class Language(unittest.TestCase):
             if [op for op in node.ops if isinstance(op, (ast.Is, ast.IsNot))]:
                 self.assertIn(getattr(node.comparators[0], "value", 0), (None, True, False), place)
 
+    def test_walked_at_once(self):
+        walked = [node.iter for node, place in self.each(ast.For)]
+        walked += [part.iter for path in FILES for part in nodes(self.trees[path], ast.comprehension)]
+        for node, place in self.each(ast.Call):
+            if getattr(node.func, "id", "") in ("list tuple dict sorted sum any all enumerate zip min max".split()):
+                walked += node.args[:1]
+        for node, place in self.each(ast.Call):
+            if getattr(node.func, "id", "") in ("zip", "enumerate", "reversed", "range"):
+                self.assertIn(node, walked, place)
+            if getattr(node.func, "attr", "") in ("items", "keys", "values"):
+                self.assertIn(node, walked, place)
+
+    def test_what_a_loop_walks_is_not_changed_in_it(self):
+        changing = "append clear extend insert pop remove reverse setdefault update".split()
+        for loop, place in self.each(ast.For):
+            walked = [ast.dump(loop.iter)] + [ast.dump(part) for part in getattr(loop.iter, "args", [])]
+            for node in nodes(loop, ast.Call):
+                if getattr(node.func, "attr", "") in changing:
+                    self.assertNotIn(ast.dump(node.func.value), walked, place)
+            for node in nodes(loop, ast.Subscript):
+                if isinstance(node.ctx, ast.Store):
+                    self.assertNotIn(ast.dump(node.value), walked, place)
+
     def test_names(self):
         for path, tree in self.trees.items():
             own = own_names_in(tree)

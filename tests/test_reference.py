@@ -5,7 +5,7 @@ import re
 import unittest
 from fractions import Fraction
 
-from helper import ask, to_bytes
+from helper import ask, pairs, to_bytes
 
 RESERVED = ("parts", "cell", "weight", "finds", "time", "team", "in")
 
@@ -105,14 +105,19 @@ class Line:
 
     def __init__(self):
         self.parts = None
+        self.known = {}
 
     def begin(self, text):
         words = re.findall(r"[a-z]+|[0-9]+", text)
         self.parts = int(words[1])
         self.weights = [int(words[at + 3]) for at, word in enumerate(words) if word == "cell"]
         self.finds = [int(words[at + 5]) for at, word in enumerate(words) if word == "cell"]
+        self.times = [int(words[at + 7]) for at, word in enumerate(words) if word == "cell"]
+        self.names = [words[at + 1] for at, word in enumerate(words) if word == "cell"]
         self.had = [0] * len(self.weights)
-        self.teams = words.count("team")
+        self.teams = []
+        for efforts, told in re.findall(r"team\s*([0-9]+)\s*in\s([^;]*);", text):
+            self.teams.append((int(efforts), [self.names.index(name) for name in told.split()]))
         numbers = re.sub(r"(?<=[a-z])(?=[0-9])|(?<=[0-9])(?=[a-z])", " ", text)
         lines = [" ".join(line.split()) + ";\n" for line in numbers.split(";")[:-1]]
         self.shown = "".join(lines)
@@ -121,27 +126,110 @@ class Line:
         return self.weights[cell] * Fraction(self.parts - self.finds[cell], self.parts) ** efforts
 
     def left(self):
-        return sum([self.mass(cell, efforts) for cell, efforts in enumerate(self.had)])
+        state = (self.parts, *self.weights, *self.finds, *self.had)
+        if state not in self.known:
+            self.known[state] = sum([self.mass(cell, efforts) for cell, efforts in enumerate(self.had)])
+        return self.known[state]
+
+    def adds(self, cell, before):
+        """What an effort adds in a cell that has had so many before."""
+        return self.mass(cell, before) * Fraction(self.finds[cell], self.parts) / self.left()
 
     def would(self, row):
         sums = Fraction(0)
         for cell, more in enumerate(row):
-            for efforts in range(self.had[cell], self.had[cell] + more):
-                sums += self.mass(cell, efforts) * Fraction(self.finds[cell], self.parts) / self.left()
+            for before in range(self.had[cell], self.had[cell] + more):
+                sums += self.adds(cell, before)
         return sums
 
-    def best(self, many):
-        """By one sorted list of all efforts: those of a cell never add more than the one before."""
-        adds = []
+    def by_adds(self):
+        """All efforts that can be made, the most adding first; those of a cell never add more than the one before."""
+        left = []
         for cell, efforts in enumerate(self.had):
-            for effort in range(efforts, 20):
-                adds.append((-(self.mass(cell, effort) - self.mass(cell, effort + 1)), cell, effort))
-        taken = [cell for add, cell, effort in sorted(adds)[:many]]
-        return [taken.count(cell) for cell in range(len(self.had))]
+            left += [(-self.adds(cell, before), cell) for before in range(efforts, 20)]
+        return sorted(left)
+
+    def best(self, many):
+        return self.row([cell for adds, cell in self.by_adds()[:many]])
+
+    def row(self, order):
+        return [order.count(cell) for cell in range(len(self.had))]
+
+    def thrift(self, time):
+        """For each time, cell by cell, the best beginning of a row that takes just so much."""
+        kept = {0: (0, [])}
+        for cell, had in enumerate(self.had):
+            masses = [int(self.mass(cell, efforts) * self.parts ** 20) for efforts in range(had, 21)]
+            more = {}
+            for spent, (left, row) in kept.items():
+                for many, mass in enumerate(masses):
+                    then = spent + many * self.times[cell]
+                    if then <= time:
+                        choice = (left + mass, row + [many])
+                        more[then] = min(more.get(then, choice), choice)
+            kept = more
+        return min(kept.values())[1]
+
+    def takes(self, order):
+        """The time when it's found, by the chance that it's then, and all the time if it isn't."""
+        spent = 0
+        expected = Fraction(0)
+        not_found = Fraction(1)
+        had = list(self.had)
+        for cell in order:
+            spent += self.times[cell]
+            adds = self.adds(cell, had[cell])
+            had[cell] += 1
+            expected += adds * spent
+            not_found -= adds
+        return expected + not_found * spent
+
+    def best_order(self, row):
+        order = []
+        had = list(self.had)
+        left = list(row)
+        while sum(left):
+            open_cells = [cell for cell, many in enumerate(left) if many]
+            cell = max(open_cells, key=lambda cell: (self.adds(cell, had[cell]) / self.times[cell], -cell))
+            order.append(cell)
+            had[cell] += 1
+            left[cell] -= 1
+        return order
+
+    def dealt(self, order):
+        """Whether each effort finds a team for it, each team's efforts handed on to others where that's needed."""
+        slots = [cells for efforts, cells in self.teams for effort in range(efforts)]
+        holder = [None] * len(slots)
+
+        def place(effort, seen):
+            for slot, cells in enumerate(slots):
+                if order[effort] in cells and slot not in seen:
+                    seen.add(slot)
+                    if holder[slot] is None or place(holder[slot], seen):
+                        holder[slot] = effort
+                        return True
+            return False
+
+        return len(order) <= len(slots) and all([place(effort, set()) for effort in range(len(order))])
+
+    def teams_best(self):
+        """The first efforts of all, by what they add, that can be dealt with those before."""
+        order = []
+        closed = []
+        for adds, cell in self.by_adds():
+            if adds < 0 and cell not in closed:
+                if self.dealt(order + [cell]):
+                    order.append(cell)
+                else:
+                    closed.append(cell)
+        return self.row(order)
 
     def answer(self, name, *given):
         if name in ("field", "where"):
             return self.text(name, given[0])
+        if name == "clear":
+            self.parts = None
+            return [0]
         if self.parts is None:
             return [-20]
         return getattr(self, "answer_" + name)(*given)
@@ -153,7 +241,7 @@ class Line:
         if name == "where":
             return [0]
         self.begin(text)
-        return [0, len(self.had), self.teams]
+        return [0, len(self.had), len(self.teams)]
 
     def answer_shown(self):
         return [0] + to_bytes(self.shown)
@@ -210,9 +298,66 @@ class Line:
         row = self.best(many)
         return [0] + row + pairs([self.would(row)])
 
+    def answer_curve(self, many):
+        answer = self.answer_best(many)
+        if answer[0] < 0:
+            return answer
+        return [0] + pairs([self.would(self.best(fewer)) for fewer in range(many + 1)])
 
-def pairs(fractions):
-    return [number for fraction in fractions for number in (fraction.numerator, fraction.denominator)]
+    def answer_price(self, many):
+        if many not in range(1, 60):
+            return [-1]
+        answer = self.answer_best(many + 1)
+        if answer[0] < 0:
+            return answer
+        return [0] + pairs([-adds for adds, cell in self.by_adds()[many - 1:many + 1]])
+
+    def answer_thrift(self, time):
+        if time not in range(101):
+            return [-1]
+        if self.left() == 0:
+            return [-6]
+        row = self.thrift(time)
+        return [0] + row + pairs([self.would(row)])
+
+    def answer_order(self, row):
+        answer = self.answer_would(row)
+        if answer[0] < 0:
+            return answer
+        order = self.best_order(row)
+        return [0, len(order)] + order + pairs([self.takes(order)])
+
+    def answer_takes(self, order):
+        if len(order) > 60 or set(order) - set(range(len(self.had))):
+            return [-1]
+        if max(self.row(order)) > 20:
+            return [-3]
+        answer = self.answer_would(self.row(order))
+        if answer[0] < 0:
+            return answer
+        return [0] + pairs([self.takes(order)])
+
+    def answer_teams(self):
+        if self.left() == 0:
+            return [-6]
+        row = self.teams_best()
+        return [0] + row + pairs([self.would(row)])
+
+    def answer_can(self, row):
+        if len(row) != len(self.had) or set(row) - set(range(21)):
+            return [-1]
+        return [0, int(self.dealt([cell for cell, many in enumerate(row) for effort in range(many)]))]
+
+    def answer_cells(self):
+        answer = [0, len(self.had)]
+        for cell, name in enumerate(self.names):
+            answer += [len(name)] + to_bytes(name)
+            answer += [self.weights[cell], self.finds[cell], self.times[cell], self.had[cell]]
+        return answer
+
+    def answer_counts(self):
+        efforts = sum([efforts for efforts, cells in self.teams])
+        return [0, len(self.had), len(self.teams), efforts, self.parts, sum(self.had)]
 
 
 class Maker:
@@ -228,10 +373,13 @@ class Maker:
         return self.some(low, high, *[self.chance.randint(low, high) for choice in range(4)])
 
     def text(self):
-        parts = self.number(2, 100)
+        """Of small numbers, many are equal."""
+        small = self.some(True, False)
+        parts = self.number(2, 4 if small else 100)
+        weight, time = (3, 3) if small else (1000, 20)
         names = self.chance.sample([a + b for a in ("", "q", "longers") for b in "abcdefgh"], self.number(1, 16))
         cells = [
-            f"cell {name} weight {self.number(0, 1000)} finds {self.number(0, parts)} time {self.number(1, 20)};"
+            f"cell {name} weight {self.number(0, weight)} finds {self.number(0, parts)} time {self.number(1, time)};"
             for name in names
         ]
         teams = [
@@ -277,15 +425,32 @@ class Maker:
     def row(self, cells):
         return [self.some(0, 0, 1, 2, self.number(0, 20)) for cell in range(self.some(*[cells] * 9, cells + 1))]
 
-    def call(self, cells):
+    def few(self, cells):
+        return [self.some(0, 0, 0, 1, 2, 3) for cell in range(cells)]
+
+    def order(self, cells):
+        cells_told = [self.chance.randrange(cells) for effort in range(self.number(0, self.some(5, 60)))]
+        return cells_told + self.some(*[[]] * 9, [cells])
+
+    def done(self, cells):
         cell = self.number(-1, cells) if self.number(0, 9) == 0 else self.chance.randrange(cells)
         return self.some(
-            ("shown",), ("vain", cell, self.number(-1, 7)), ("vain", cell, self.number(0, 21)),
-            ("back", cell, self.number(-1, 5)), ("chances",), ("left",),
+            ("vain", cell, self.number(-1, 7)), ("vain", cell, self.number(0, 21)), ("back", cell, self.number(-1, 5)),
             ("evidence", self.number(0, 1000), self.number(1, 30), self.row(cells)[:self.number(0, 5)]),
             ("evidence", self.number(1, 4), self.number(1, 4), [cell, cell]), ("evidence", 1000, 1000, []),
-            ("would", self.row(cells)), ("best", self.number(-1, 61)), ("best", self.number(0, 10)),
         )
+
+    def asked(self, cells):
+        return self.some(
+            ("shown",), ("chances",), ("left",), ("would", self.row(cells)), ("best", self.number(-1, 61)),
+            ("best", self.number(0, 10)), ("curve", self.number(-1, self.some(7, 61))), ("price", self.number(0, 9)),
+            ("price", self.number(0, 60)), ("thrift", self.number(-1, self.some(30, 101))),
+            ("order", self.row(cells)), ("takes", self.order(cells)), ("teams",), ("can", self.row(cells)),
+            ("can", self.few(cells)), ("teams",), ("can", self.few(cells)), ("cells",), ("counts",),
+        )
+
+    def call(self, cells):
+        return self.some(self.done, self.asked)(cells)
 
     def line(self):
         calls = [self.call(3) for many in range(self.number(0, 2))]
@@ -295,8 +460,8 @@ class Maker:
             cells = max(1, text.count("cell"))
             calls += [self.call(cells) for many in range(self.number(5, 20))]
             calls.append((self.some("field", "where"), self.some(self.wrong_text, self.fault)()[:1500]))
-            calls += [("chances",), ("left",), ("shown",)]
-        best = [at for at, call in enumerate(calls) if call[0] == "best"]
+            calls += [("chances",), ("left",), ("shown",)] + self.some([], [], [("clear",), ("counts",)])
+        best = [at for at, call in enumerate(calls) if call[0] in ("best", "curve", "price", "thrift")]
         return [call for at, call in enumerate(calls) if at not in best[12:]]
 
 
